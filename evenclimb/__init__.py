@@ -1,0 +1,1 @@
+"""Evenclimb: climbs in orders with joins and meets."""

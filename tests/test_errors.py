@@ -1,0 +1,51 @@
+"""The interface of evenclimb.errors."""
+
+import unittest
+
+from evenclimb import errors
+from evenclimb.climbs import climb_at, number_of
+from evenclimb.orders import Order
+from helper import square
+
+NAMES = ("NoCount NoThing NoOrder NoJoin NoNumber NoClimb NoExchange NoEnds NoPart NotEven NoChain "
+         "NoText NoLine NoWord NoName").split()
+FIELDS = [("NoThing", "thing", 7), ("NoOrder", "things", (1, 2)), ("NoJoin", "things", (0, 3)),
+          ("NotEven", "five", (0, 1, 2, 3, 4)), ("NoText", "at", 2), ("NoName", "name", "abc")]
+
+
+class ErrorsTest(unittest.TestCase):
+    def test_climb_error_is_a_value_error(self):
+        self.assertEqual(errors.ClimbError.__bases__, (ValueError,))
+
+    def test_each_class_stands_straight_under_climb_error(self):
+        for name in NAMES:
+            with self.subTest(name=name):
+                self.assertEqual(getattr(errors, name).__bases__, (errors.ClimbError,))
+
+    def test_none_stands_under_another(self):
+        classes = [getattr(errors, name) for name in NAMES]
+        self.assertEqual(len(set(classes)), len(NAMES))
+        for one in classes:
+            for other in classes:
+                if one is not other:
+                    self.assertFalse(issubclass(one, other))
+
+    def test_fields_are_set_when_made(self):
+        for name, field, value in FIELDS:
+            with self.subTest(name=name):
+                error = getattr(errors, name)(value)
+                self.assertEqual(getattr(error, field), value)
+                self.assertTrue(str(error))
+
+    def test_every_refusal_is_caught_as_climb_error_and_value_error(self):
+        asked = [lambda: Order(0, []), lambda: Order(1, [(0, 1)]), lambda: Order(2, [(0, 1), (1, 0)]),
+                 lambda: Order(2, []), lambda: square().join(4, 0), lambda: climb_at(square(), 0, 3, 2),
+                 lambda: number_of(square(), [])]
+        for ask in asked:
+            for base in (errors.ClimbError, ValueError):
+                with self.assertRaises(base):
+                    ask()
+
+
+if __name__ == "__main__":
+    unittest.main()
