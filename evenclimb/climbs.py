@@ -1,6 +1,6 @@
 """Steps, chains and climbs, and how climbs are counted and numbered."""
 
-from evenclimb.errors import NoClimb, NoNumber
+from evenclimb.errors import NoClimb, NoEnds, NoNumber
 from evenclimb.orders import is_thing, is_whole, need_thing
 
 
@@ -35,6 +35,25 @@ def is_climb(order, things):
     if not is_chain(order, things):
         return False
     return all([is_step(order, a, b) for a, b in zip(things, things[1:])])
+
+
+def need_climb(order, things):
+    """Refuse a list that is no climb."""
+    if not is_climb(order, things):
+        raise NoClimb("this list is no climb of the order")
+
+
+def need_like_ends(one, other):
+    """Refuse two lists whose first or last things are unlike."""
+    if one[0] != other[0] or one[-1] != other[-1]:
+        raise NoEnds("the first or the last things of the two lists are unlike")
+
+
+def need_two_climbs(order, one, other):
+    """Refuse what is no climb, then climbs with unlike first or last things."""
+    need_climb(order, one)
+    need_climb(order, other)
+    need_like_ends(one, other)
 
 
 def steps_above(order):
@@ -95,8 +114,7 @@ def climb_at(order, a, b, number):
 
 def number_of(order, climb):
     """The number of the climb among those from its first to its last thing."""
-    if not is_climb(order, climb):
-        raise NoClimb("this list is no climb of the order")
+    need_climb(order, climb)
     above = steps_above(order)
     ways = climbs_to(order, above, climb[-1])
     number = 0

@@ -1,5 +1,6 @@
 """Orders for the tests, and plain reckonings that share nothing with the program."""
 
+from functools import lru_cache
 from itertools import combinations, permutations, product
 
 from evenclimb.errors import ClimbError
@@ -44,6 +45,86 @@ def flat(count):
     """0 below all, the last above all, nothing else."""
     pairs = [(0, thing) for thing in range(1, count)]
     return Order(count, pairs + [(thing, count - 1) for thing in range(count - 1)])
+
+
+def hexagon():
+    """From 0 to 5 by 1 and 2, or by 3 and 4: all climbs are as long, but it is not even."""
+    return Order(6, [(0, 1), (1, 2), (2, 5), (0, 3), (3, 4), (4, 5)])
+
+
+def fields_order():
+    """The sixteen fields of rows of three signs, the ones with fewer rows first."""
+    fields = {frozenset([0])}
+    while True:
+        more = {frozenset(field | {row ^ other for other in field}) for field in fields for row in range(8)} - fields
+        if not more:
+            break
+        fields |= more
+    told = sorted((sorted(field) for field in fields), key=lambda field: (len(field), field))
+    return Order(16, [(a, b) for a, b in product(range(16), repeat=2) if set(told[a]) <= set(told[b])])
+
+
+def ways_to_part_four():
+    """The fifteen ways to part four things into heaps, a finer one at most a coarser one."""
+    told = sorted({tuple(heaps.index(heap) for heap in heaps) for heaps in product(range(4), repeat=4)})
+    pairs = [(a, b) for a, b in product(range(15), repeat=2)
+             if all(told[b][i] == told[b][j] for i, j in product(range(4), repeat=2) if told[a][i] == told[a][j])]
+    return Order(15, pairs)
+
+
+def beside(one, other):
+    """All pairs of a thing of the one and one of the other."""
+    things = list(product(range(one.count), range(other.count)))
+    return Order(len(things), [(a, b) for a, b in product(range(len(things)), repeat=2)
+                               if one.at_most(things[a][0], things[b][0]) and other.at_most(things[a][1], things[b][1])])
+
+
+def upon(low, high):
+    """The high one upon the low one, its lowest thing being the low one's highest."""
+    others = [thing for thing in range(high.count) if thing != high.lowest()]
+    names = {thing: low.count + place for place, thing in enumerate(others)}
+    names[high.lowest()] = low.highest()
+    return Order(low.count + len(others), list(low.pairs) + [(names[a], names[b]) for a, b in high.pairs])
+
+
+def renumbered(order, factor):
+    """The same order; the thing of number k has the number k times factor, and three added, by the rest."""
+    names = [(thing * factor + 3) % order.count for thing in range(order.count)]
+    assert sorted(names) == list(range(order.count))
+    return Order(order.count, [(names[a], names[b]) for a, b in order.pairs])
+
+
+def small_orders(count):
+    """All orders of so many things, 2 or more, whose numbers rise with them: so each order there is, but for its numbers."""
+    ends = [(0, thing) for thing in range(1, count)] + [(thing, count - 1) for thing in range(1, count - 1)]
+    inner = list(combinations(range(1, count - 1), 2))
+    found = {}
+    for chosen in product((False, True), repeat=len(inner)):
+        try:
+            order = Order(count, ends + [pair for pair, taken in zip(inner, chosen) if taken])
+        except ClimbError:
+            continue
+        found[order.pairs] = order
+    return list(found.values())
+
+
+def even_orders():
+    """Even orders up to twenty-four things, among them some that are numbered otherwise than they rise."""
+    return [one_thing(), row_of(2), row_of(5), square(), mixed_cube(), four_fold(), flat(5), flat(24), fields_order(),
+            Order(24, [(thing + 1, thing) for thing in range(23)]), beside(row_of(3), mixed_cube()),
+            beside(row_of(6), square()), beside(flat(5), row_of(4)), renumbered(beside(flat(6), square()), 5),
+            renumbered(fields_order(), 7), renumbered(upon(fields_order(), flat(9)), 11),
+            upon(upon(flat(6), flat(6)), upon(flat(6), flat(6)))]
+
+
+def uneven_orders():
+    """Orders that are not even, up to twenty-four things; the second to the sixth have all climbs as long."""
+    square_faces = Order(10, [(0, corner) for corner in range(1, 5)] + [(side, 9) for side in range(5, 9)]
+                         + [(1, 5), (2, 5), (2, 6), (3, 6), (3, 7), (4, 7), (4, 8), (1, 8)])
+    return [side_way(), hexagon(), ways_to_part_four(), square_faces, renumbered(hexagon(), 5),
+            renumbered(ways_to_part_four(), 7), renumbered(side_way(), 3), beside(side_way(), row_of(4)),
+            renumbered(beside(hexagon(), square()), 7), upon(upon(square(), side_way()), fields_order()),
+            upon(side_way(), upon(side_way(), hexagon()))]
 
 
 def samples():
@@ -104,9 +185,14 @@ def plain_steps(order):
                   if not any((a, x) in below and (x, b) in below for x in range(order.count)))
 
 
+@lru_cache(maxsize=None)
+def step_set(order):
+    return frozenset(plain_steps(order))
+
+
 def plain_climbs(order, a, b):
     """All climbs from a to b, sorted, found by walking every way."""
-    step_list = plain_steps(order)
+    step_list = step_set(order)
     ready = []
     open_ways = [[a]]
     while open_ways:
@@ -116,6 +202,58 @@ def plain_climbs(order, a, b):
         else:
             open_ways.extend(way + [high] for low, high in step_list if low == way[-1])
     return sorted(ready)
+
+
+def plain_height(order, thing):
+    """How many steps the longest climb from the lowest thing has."""
+    return max(len(climb) for climb in plain_climbs(order, order.lowest(), thing)) - 1
+
+
+def plain_exchanges(order, climb):
+    """All exchanges of a climb, rising, found by putting each thing at each place."""
+    known = step_set(order)
+    return [(place, thing) for place in range(1, len(climb) - 1) for thing in range(order.count)
+            if thing != climb[place] and (climb[place - 1], thing) in known and (thing, climb[place + 1]) in known]
+
+
+def plain_groups(order, a, b):
+    """For each climb from a to b, as a tuple, the set of those that exchanges lead it into, itself among them."""
+    climbs = [tuple(climb) for climb in plain_climbs(order, a, b)]
+    groups = {climb: {climb} for climb in climbs}
+    for one, other in combinations(climbs, 2):
+        alike = len(one) == len(other) and sum(x != y for x, y in zip(one, other)) == 1
+        if alike and groups[one] is not groups[other]:
+            both = groups[one] | groups[other]
+            for climb in both:
+                groups[climb] = both
+    return groups
+
+
+def plain_chains(order, a, b):
+    """All chains from a to b."""
+    between = [thing for thing in range(order.count)
+               if thing not in (a, b) and order.at_most(a, thing) and order.at_most(thing, b)]
+    if a == b:
+        return [[a]]
+    if not order.at_most(a, b):
+        return []
+    return [[a, b]] + [[a] + rest for thing in between for rest in plain_chains(order, thing, b)]
+
+
+def carried_up(order, one, other):
+    return order.join(one[1], other[0]) == other[1] and order.meet(one[1], other[0]) == one[0]
+
+
+def parts(things):
+    return list(zip(things, things[1:]))
+
+
+def bars(order, five):
+    """Whether five things bar the order, condition by condition as point 11 has them."""
+    bottom, low, side, high, top = five
+    return (order.at_most(low, high) and low != high and not order.at_most(side, high) and not order.at_most(low, side)
+            and order.join(low, side) == top and order.join(high, side) == top
+            and order.meet(low, side) == bottom and order.meet(high, side) == bottom)
 
 
 def things_twice(order):

@@ -4,8 +4,11 @@ import unittest
 
 from evenclimb import errors
 from evenclimb.climbs import climb_at, number_of
+from evenclimb.exchanges import exchanged, led
+from evenclimb.longer import longer
 from evenclimb.orders import Order
-from helper import square
+from evenclimb.pairs import carried, paired
+from helper import side_way, square
 
 NAMES = ("NoCount NoThing NoOrder NoJoin NoNumber NoClimb NoExchange NoEnds NoPart NotEven NoChain "
          "NoText NoLine NoWord NoName").split()
@@ -40,7 +43,9 @@ class ErrorsTest(unittest.TestCase):
     def test_every_refusal_is_caught_as_climb_error_and_value_error(self):
         asked = [lambda: Order(0, []), lambda: Order(1, [(0, 1)]), lambda: Order(2, [(0, 1), (1, 0)]),
                  lambda: Order(2, []), lambda: square().join(4, 0), lambda: climb_at(square(), 0, 3, 2),
-                 lambda: number_of(square(), [])]
+                 lambda: number_of(square(), []), lambda: exchanged(square(), [0, 1, 3], (1, 1)),
+                 lambda: led(square(), [0, 1], [0, 2]), lambda: carried(square(), (1, 2), (0, 1)),
+                 lambda: paired(side_way(), [0], [0]), lambda: longer(square(), [1, 2], [1, 2])]
         for ask in asked:
             for base in (errors.ClimbError, ValueError):
                 with self.assertRaises(base):
