@@ -166,3 +166,11 @@ class Order:
         for thing in range(self.count):
             found = self.joins[found][thing]
         return found
+
+
+def order_by(things, is_at_most):
+    """The order of these things, numbered as they stand, one at most another where is_at_most tells so of them."""
+    pairs = []
+    for low, one in enumerate(things):
+        pairs.extend([(low, high) for high, other in enumerate(things) if is_at_most(one, other)])
+    return Order(len(things), pairs)

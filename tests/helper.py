@@ -258,3 +258,29 @@ def bars(order, five):
 
 def things_twice(order):
     return product(range(order.count), repeat=2)
+
+
+def shape(order):
+    """What two like orders have in common."""
+    return (order.count, order.pairs)
+
+
+def plain_between(order, a, b):
+    """All things between a and b, rising, by the order's pairs alone."""
+    known = set(order.pairs) | {(thing, thing) for thing in range(order.count)}
+    return [thing for thing in range(order.count) if (a, thing) in known and (thing, b) in known]
+
+
+def plain_even(order):
+    """Whether there are no five things that bar the order, by every choice of low, side and high."""
+    return not any(bars(order, (order.meet(low, side), low, side, high, order.join(low, side)))
+                   for low, high in order.pairs for side in range(order.count))
+
+
+def answer(ask, *given):
+    """What is answered; of a refusal its class's name, and its field if it has one."""
+    try:
+        return ask(*given)
+    except ClimbError as refusal:
+        fields = [vars(refusal)[name] for name in ("thing", "things", "five", "at", "name") if name in vars(refusal)]
+        return (type(refusal).__name__, *fields)

@@ -4,11 +4,15 @@ import unittest
 
 from evenclimb import errors
 from evenclimb.climbs import climb_at, number_of
+from evenclimb.desk import Desk
 from evenclimb.exchanges import exchanged, led
 from evenclimb.longer import longer
+from evenclimb.made import dividers, sums_order
 from evenclimb.orders import Order
 from evenclimb.pairs import carried, paired
-from helper import side_way, square
+from evenclimb.parts import between, side_by_side
+from evenclimb.texts import read_order
+from helper import flat, side_way, square
 
 NAMES = ("NoCount NoThing NoOrder NoJoin NoNumber NoClimb NoExchange NoEnds NoPart NotEven NoChain "
          "NoText NoLine NoWord NoName").split()
@@ -45,7 +49,10 @@ class ErrorsTest(unittest.TestCase):
                  lambda: Order(2, []), lambda: square().join(4, 0), lambda: climb_at(square(), 0, 3, 2),
                  lambda: number_of(square(), []), lambda: exchanged(square(), [0, 1, 3], (1, 1)),
                  lambda: led(square(), [0, 1], [0, 2]), lambda: carried(square(), (1, 2), (0, 1)),
-                 lambda: paired(side_way(), [0], [0]), lambda: longer(square(), [1, 2], [1, 2])]
+                 lambda: paired(side_way(), [0], [0]), lambda: longer(square(), [1, 2], [1, 2]),
+                 lambda: between(square(), 1, 2), lambda: side_by_side(flat(5), flat(5)), lambda: dividers(0),
+                 lambda: sums_order(4), lambda: read_order(""), lambda: Desk().tell(""),
+                 lambda: Desk().tell("order A 1"), lambda: Desk().tell("show a")]
         for ask in asked:
             for base in (errors.ClimbError, ValueError):
                 with self.assertRaises(base):

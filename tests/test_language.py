@@ -133,6 +133,65 @@ class LanguageTest(unittest.TestCase):
                 if isinstance(node, ast.arg) or isinstance(node, ast.Name) and isinstance(node.ctx, ast.Store):
                     self.assertNotIn(getattr(node, "arg", None) or getattr(node, "id", None), taken, name)
 
+    def test_no_two_files_draw_from_one_another(self):
+        drawn = {name[:-3]: {node.module.split(".")[1] for node in tree.body if isinstance(node, ast.ImportFrom)}
+                 for name, tree in self.trees.items()}
+        while drawn:
+            ready = {name for name, others in drawn.items() if not others & set(drawn)}
+            self.assertTrue(ready, f"these draw from one another: {sorted(drawn)}")
+            drawn = {name: others for name, others in drawn.items() if name not in ready}
+
+    def test_values_at_the_top_are_plain_and_only_read(self):
+        for name, tree in self.trees.items():
+            for top in [node for node in tree.body if isinstance(node, ast.Assign)]:
+                inner = [node for node in ast.walk(top.value) if node is not top.value]
+                self.assertFalse([node for node in inner if isinstance(node, (ast.List, ast.Dict, ast.Set, ast.Call))], name)
+            kept = {node.targets[0].id for node in tree.body if isinstance(node, ast.Assign)}
+            for node in ast.walk(tree):
+                if isinstance(node, ast.Attribute) and isinstance(node.value, ast.Name) and node.value.id in kept:
+                    self.assertIn(node.attr, ("get", "index", "count"), name)
+                if isinstance(node, ast.Subscript) and not isinstance(node.ctx, ast.Load):
+                    self.assertNotIn(getattr(node.value, "id", None), kept, name)
+
+    def test_sets_are_not_kept(self):
+        straight = set()
+        for place, node in self.walk(ast.Call):
+            if getattr(node.func, "id", None) in ("sorted", "len") and not node.keywords:
+                straight |= {id(argument) for argument in node.args}
+        for place, node in self.walk(ast.Set):
+            self.fail(place)
+        for place, node in self.walk(ast.Call):
+            if getattr(node.func, "id", None) in ("set", "frozenset"):
+                self.assertIn(id(node), straight, place)
+
+    def test_what_is_walked_at_once_is_not_kept(self):
+        walked = set()
+        for place, node in self.walk(ast.For, ast.comprehension):
+            walked.add(id(node.iter))
+        for place, node in self.walk(ast.Call):
+            if getattr(node.func, "id", None) in ("list", "tuple", "dict", "sorted", "sum", "any", "all", "enumerate", "zip"):
+                walked |= {id(argument) for argument in node.args[:1]}
+        for place, node in self.walk(ast.Call):
+            if getattr(node.func, "id", None) in ("zip", "enumerate", "reversed", "range"):
+                self.assertIn(id(node), walked, place)
+
+    def test_texts_and_powers(self):
+        for place, node in self.walk(ast.Constant):
+            if isinstance(node.value, str):
+                self.assertNotIn("%", node.value, place)
+        for place, node in self.walk(ast.BinOp):
+            if isinstance(node.op, ast.Pow):
+                self.assertIsInstance(node.right, ast.Constant, place)
+        for place, node in self.walk(ast.FormattedValue):
+            self.assertIsInstance(node.value, ast.Name, place)
+
+    def test_keywords(self):
+        known = {"sorted": {"key", "reverse"}, "min": {"key", "default"}, "max": {"key", "default"}, "sum": {"start"},
+                 "enumerate": {"start"}, "zip": {"strict"}}
+        for place, node in self.walk(ast.Call):
+            told = {keyword.arg for keyword in node.keywords}
+            self.assertLessEqual(told, known.get(getattr(node.func, "id", None), set()), place)
+
     def test_methods_and_values(self):
         methods, values = own_attributes(self.trees.values())
         self.assertEqual(methods & values, set())
